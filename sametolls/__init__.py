@@ -1,0 +1,1 @@
+"""Sametolls: numbers sent along a tree, and what each tie must bear."""

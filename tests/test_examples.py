@@ -1,0 +1,42 @@
+"""The examples of the document, as far as their modules have landed."""
+
+import unittest
+
+from sametolls.clocks import determinant, ladder, mixture, parting
+from sametolls.listeners import surely_learnt
+from sametolls.plans import first_wrong, least_plan
+from sametolls.runs import wanted
+from sametolls.sheets import Sheet, block
+from sametolls.tolls import tolls
+from sametolls.trees import Tree, beyond, ways
+
+T = Tree(((0, 1), (1, 2)))
+S = Sheet(5, T, (1, 1, 1), (((1, 0, 0),), ((1, 1, 0),), ((0, 1, 1),)))
+
+
+class Examples(unittest.TestCase):
+    def test_e01(self):
+        self.assertEqual(ladder(5, 3, [(2, 4, 1), (1, 2, 0)]), ((1, 2, 0), (0, 0, 1)))
+        self.assertEqual(determinant(5, ((1, 2), (3, 4))), 3)
+        self.assertEqual(mixture(5, 2, [(1, 1), (0, 1)], (2, 0)), (2, 3))
+        one, other = parting(5, 2, [(1, 1)], (1, 0))
+        self.assertEqual(((one + other) % 5, one), (0, 1))
+
+    def test_e02(self):
+        self.assertEqual(beyond(T, (1, 0)), (0,))
+        self.assertEqual(ways(T), [(0, 1), (1, 0), (1, 2), (2, 1)])
+
+    def test_e03(self):
+        self.assertEqual(tolls(S), {(0, 1): 1, (1, 0): 0, (1, 2): 1, (2, 1): 0})
+        self.assertEqual(block(S, (1, 2)), ((0, 1),))
+
+    def test_e04(self):
+        self.assertIsNone(first_wrong(S, least_plan(S)))
+        self.assertEqual(surely_learnt(S, ((0, 1), (1, 2))), ((1, 0, 0), (0, 1, 0)))
+
+    def test_e05(self):
+        self.assertEqual(wanted(S, (1, 2, 3)), ((1,), (3,), (0,)))
+
+
+if __name__ == "__main__":
+    unittest.main()
