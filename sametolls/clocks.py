@@ -29,7 +29,8 @@ def ladder(p, wide, rows):
 
 def rank(p, wide, rows):
     """How many rows the ladder has."""
-    return len(ladder(p, wide, rows))
+    check_rows(p, wide, rows)
+    return rank_of(p, wide, rows)
 
 
 def mixture(p, wide, rows, row):
@@ -66,8 +67,7 @@ def square(p, wide, rows):
 
 def determinant(p, rows):
     """The determinant of as many rows as each has values."""
-    if not is_clock(p):
-        raise NoClock()
+    check_clock(p)
     if not isinstance(rows, (list, tuple)) or len(rows) > MOST_SIDE:
         raise NoRows(-1)
     check_each(p, len(rows), rows)
@@ -85,10 +85,15 @@ def determinant(p, rows):
     return worth
 
 
-def check_rows(p, wide, rows):
-    """Raise the error that is due for a clock, a length and rows."""
+def check_clock(p):
+    """Raise an error for what is no clock."""
     if not is_clock(p):
         raise NoClock()
+
+
+def check_rows(p, wide, rows):
+    """Raise the error that is due for a clock, a length and rows."""
+    check_clock(p)
     if not is_below(wide, MOST_WIDE + 1):
         raise NoNumber()
     if not isinstance(rows, (list, tuple)) or len(rows) > MOST_ROWS:
@@ -113,6 +118,32 @@ def ladder_of(p, wide, rows):
     """The ladder of right rows, however many they are."""
     rungs = rungs_of(p, wide, rows)[0]
     return tuple([rungs[place] for place in sorted(rungs)])
+
+
+def rank_of(p, wide, rows):
+    """The rank of right rows, however many they are."""
+    # A rung is 0 in the first places of those ahead of it, so that clearing in their order is enough.
+    rungs = {}
+    for row in rows:
+        rest = cleared(p, rungs, row)
+        place = first_place(rest, wide)
+        if place is not None:
+            rungs[place] = multiplied(p, inverse(p, rest[place]), rest)
+    return len(rungs)
+
+
+def kernel_of(p, wide, rows):
+    """The ladder of all rows whose products with each of the rows, place by place, add up to 0."""
+    rungs = rungs_of(p, wide, rows)[0]
+    found = []
+    for place, unit in enumerate(unit_rows(wide)):
+        if place not in rungs:
+            row = list(unit)
+            # A rung has only its own first place and this one where the row is not 0.
+            for first in rungs:
+                row[first] = -rungs[first][place] % p
+            found.append(tuple(row))
+    return ladder_of(p, wide, found)
 
 
 def rungs_of(p, wide, rows):
@@ -181,6 +212,14 @@ def inverse(p, value):
         ahead, now = now, ahead - times * now
         before, factor = factor, before - times * factor
     return factor % p
+
+
+def power(p, times):
+    """A number multiplied by itself so many times."""
+    total = 1
+    for _ in range(times):
+        total = total * p
+    return total
 
 
 def first_place(row, wide):

@@ -26,3 +26,10 @@ def is_row(thing, p, wide):
 def are_ascending(things):
     """Whether each of some things that can be compared is greater than the one ahead."""
     return all([one < other for one, other in zip(things, things[1:])])
+
+
+def is_lot(thing, end):
+    """Whether a thing is an ascending tuple of numbers below an end."""
+    if not isinstance(thing, tuple) or not all([is_below(number, end) for number in thing]):
+        return False
+    return are_ascending(thing)

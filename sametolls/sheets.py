@@ -1,7 +1,7 @@
 """Sheets: what the posts of a tree hold and want."""
 
 from sametolls.clocks import is_clock
-from sametolls.errors import BadSheet, NoPost, NoWay
+from sametolls.errors import BadSheet, NoCounts, NoPost, NoWay
 from sametolls.kinds import is_below, is_row
 from sametolls.trees import Tree, beyond, is_way, this_side
 
@@ -40,6 +40,12 @@ def are_counts(tree, thing):
     return sum(thing) <= MOST_IN_ALL
 
 
+def check_counts(tree, thing):
+    """Raise an error for what does not give a count for each post."""
+    if not are_counts(tree, thing):
+        raise NoCounts()
+
+
 def check_wants(p, tree, numbers, wants):
     """Raise the error that is due for what does not tell the wants of each post."""
     if not isinstance(wants, tuple) or len(wants) != tree.posts:
@@ -58,8 +64,28 @@ def held(sheet, post):
     """The lot of the numbers that a post holds."""
     if not is_below(post, sheet.tree.posts):
         raise NoPost()
-    start = sum(sheet.holds[:post])
-    return tuple(range(start, start + sheet.holds[post]))
+    return own_places(sheet.holds, post)
+
+
+def own_places(counts, post):
+    """The lot of the places of a post in all rows, if each post has so many."""
+    start = sum(counts[:post])
+    return tuple(range(start, start + counts[post]))
+
+
+def by_posts(counts, things):
+    """Some things, all in one list, dealt out to the posts, so many to each."""
+    return tuple([tuple([things[place] for place in own_places(counts, post)]) for post in range(len(counts))])
+
+
+def all_wants(sheet):
+    """The list of the rows of all wants, post by post."""
+    return [row for rows in sheet.wants for row in rows]
+
+
+def want_counts(sheet):
+    """How many sums each post wants."""
+    return tuple([len(rows) for rows in sheet.wants])
 
 
 def block(sheet, way):

@@ -2,7 +2,7 @@
 
 from sametolls.clocks import determinant, rank, square
 from sametolls.errors import NoWay
-from sametolls.kinds import are_ascending, is_below, is_pair
+from sametolls.kinds import are_ascending, is_below, is_lot, is_pair
 from sametolls.sheets import block, cut, far_wants, near_numbers
 from sametolls.trees import is_way, ways
 
@@ -55,7 +55,7 @@ def is_want(sheet, thing):
 
 def are_numbers(sheet, way, thing):
     """Whether a thing is a lot of numbers held this side of a way."""
-    if not isinstance(thing, tuple) or not all([is_below(number, sheet.numbers) for number in thing]):
+    if not is_lot(thing, sheet.numbers):
         return False
     near = near_numbers(sheet, way)
-    return all([number in near for number in thing]) and are_ascending(thing)
+    return all([number in near for number in thing])

@@ -95,6 +95,11 @@ def are_ways(tree, thing):
     return are_ascending(thing)
 
 
+def row_of_posts(posts):
+    """The tree of so many posts, each tied to the next one."""
+    return Tree(tuple([(post, post + 1) for post in range(posts - 1)]))
+
+
 def outward(tree):
     """The list of all ways, each behind those that lead on to it."""
     return sorted(ways(tree), key=lambda way: (len(this_side(tree, way)), way))

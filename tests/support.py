@@ -4,6 +4,7 @@ from itertools import product
 
 from sametolls.clocks import mixture
 from sametolls.errors import NoRows, NoWay
+from sametolls.rulesheets import Rules
 from sametolls.sheets import Sheet
 from sametolls.trees import Tree, ways
 
@@ -108,6 +109,93 @@ def some_sheets(seed, count, most_posts=5, most_held=2, most_wanted=2, clocks=(2
         posts = 1 + dice.below(most_posts)
         tree = [row_tree(posts), star_tree(posts, dice.below(posts)), some_tree(dice, posts)][number % 3]
         found.append(some_sheet(dice, clocks[dice.below(len(clocks))], tree, most_held, most_wanted))
+    return found
+
+
+def dealt(counts, things):
+    """Things dealt out, so many to each post."""
+    left = list(things)
+    return tuple(tuple(left.pop(0) for _ in range(count)) for count in counts)
+
+
+def flat(things):
+    """All that is in some tuples, one behind the other."""
+    return [thing for part in things for thing in part]
+
+
+def some_counts(dice, posts, total):
+    """Counts up to 8 for posts, so many in all."""
+    counts = [0] * posts
+    while sum(counts) < total:
+        post = dice.below(posts)
+        counts[post] += counts[post] < 8
+    return tuple(counts)
+
+
+def invertible_rows(dice, p, wide):
+    """As many rows as they are long, made of those with 1 in one place by steps that can be taken back."""
+    rows = dice.mixed(units(wide))
+    for _ in range(3 * wide if wide > 1 else 0):
+        one = dice.below(wide)
+        other = (one + 1 + dice.below(wide - 1)) % wide
+        rows[one] = add(p, times(p, 1 + dice.below(p - 1), rows[one]), times(p, dice.below(p), rows[other]))
+    return rows
+
+
+def undoable_sheet(dice, p, tree, total):
+    """A sheet of so many numbers that can be undone."""
+    holds = some_counts(dice, tree.posts, total)
+    wants = holds if dice.below(3) == 0 else some_counts(dice, tree.posts, total)
+    return Sheet(p, tree, holds, dealt(wants, invertible_rows(dice, p, total)))
+
+
+def undoable_sheets(seed, count, most_posts=5, most_numbers=6, clocks=(2, 3, 101, 999983)):
+    """Sheets that can be undone, on all kinds of trees and clocks."""
+    dice = Dice(seed)
+    found = [EXAMPLE, Sheet(2, Tree(()), (0,), ((),))]
+    for number in range(count):
+        posts = 1 + dice.below(most_posts)
+        tree = [row_tree(posts), star_tree(posts, dice.below(posts)), some_tree(dice, posts)][number % 3]
+        p = clocks[dice.below(len(clocks))]
+        found.append(undoable_sheet(dice, p, tree, dice.below(min(most_numbers, 8 * posts) + 1)))
+    return found
+
+
+def near_places(tree, unknowns, post):
+    """The places of the unknowns of a post and of those tied to it."""
+    near = [post] + [one + other - post for one, other in tree.ties if post in (one, other)]
+    owners = [owner for owner in range(tree.posts) for _ in range(unknowns[owner])]
+    return [place for place, owner in enumerate(owners) if owner in near]
+
+
+def rule_row(dice, p, tree, unknowns, post):
+    """A row that a rule of a post can have."""
+    near = near_places(tree, unknowns, post)
+    row = dice.row(p, sum(unknowns))
+    return tuple(value if place in near else 0 for place, value in enumerate(row))
+
+
+def some_rules(dice, p, tree, unknowns, counts):
+    """Rules of these counts; most of them hold for one tuple of values, so that there often are solutions."""
+    values = tuple(dice.below(p) for _ in range(sum(unknowns)))
+    rarely = dice.below(3) * 4
+    found = []
+    for post in range(tree.posts):
+        rows = [rule_row(dice, p, tree, unknowns, post) for _ in range(counts[post])]
+        found.append(tuple((row, (dot(p, row, values) + (rarely > 0 and dice.below(rarely) == 0)) % p) for row in rows))
+    return Rules(p, tree, unknowns, tuple(found))
+
+
+def some_rule_sheets(seed, count, most_posts=4, most_unknowns=2, most_rules=2, clocks=(2, 3, 101, 999983)):
+    """Rules on all kinds of trees and clocks."""
+    dice = Dice(seed)
+    found = []
+    for number in range(count):
+        posts = 1 + dice.below(most_posts)
+        tree = [row_tree(posts), star_tree(posts, dice.below(posts)), some_tree(dice, posts)][number % 3]
+        unknowns = tuple(dice.below(most_unknowns + 1) for _ in range(posts))
+        counts = tuple(dice.below(most_rules + 1) for _ in range(posts))
+        found.append(some_rules(dice, clocks[dice.below(len(clocks))], tree, unknowns, counts))
     return found
 
 

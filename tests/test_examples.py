@@ -3,12 +3,16 @@
 import unittest
 
 from sametolls.clocks import determinant, ladder, mixture, parting
+from sametolls.givens import barring
 from sametolls.listeners import surely_learnt
+from sametolls.orders import least_peak, least_sum
 from sametolls.plans import first_wrong, least_plan
 from sametolls.runs import wanted
 from sametolls.sheets import Sheet, block
+from sametolls.texts import sheet_text
 from sametolls.tolls import tolls
 from sametolls.trees import Tree, beyond, ways
+from sametolls.undoing import undone
 
 T = Tree(((0, 1), (1, 2)))
 S = Sheet(5, T, (1, 1, 1), (((1, 0, 0),), ((1, 1, 0),), ((0, 1, 1),)))
@@ -36,6 +40,19 @@ class Examples(unittest.TestCase):
 
     def test_e05(self):
         self.assertEqual(wanted(S, (1, 2, 3)), ((1,), (3,), (0,)))
+        self.assertEqual(undone(S).wants, (((1, 0, 0),), ((4, 1, 0),), ((1, 4, 1),)))
+
+    def test_e06(self):
+        table = {(0, 1): 1, (1, 0): 0, (1, 2): 2, (2, 1): 0}
+        self.assertEqual(barring(T, (1, 0, 0), (0, 0, 1), table), (1, (1, 2)))
+
+    def test_e08(self):
+        sheet = Sheet(2, Tree(((0, 1),)), (1, 0), ((), ((1,),)))
+        self.assertEqual(sheet_text(sheet), "clock 2\ntie 0 1\npost 1\npost 0\nwant 1\n")
+
+    def test_e09(self):
+        self.assertEqual(least_peak(S)[0], 1)
+        self.assertEqual(least_sum(S)[0], 2)
 
 
 if __name__ == "__main__":

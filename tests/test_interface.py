@@ -16,6 +16,22 @@ FILES = {
     "runs": ["run(sheet, plan, given)", "wanted(sheet, given)"],
     "listeners": ["learnt(sheet, plan, ways)", "surely_learnt(sheet, ways)", "can_hide(sheet, ways, row)",
                   "alike(sheet, plan, ways, one, other)", "twin(sheet, plan, ways, given, row)"],
+    "texts": ["sheet_text(sheet)", "plan_text(sheet, plan)"],
+    "reading": ["read_sheet(text)", "read_plan(sheet, text)"],
+    "orders": ["in_row(sheet, order)", "cut_tolls(sheet, lot)", "least_peak(sheet)", "least_sum(sheet)",
+               "floors(sheet)", "is_floors(sheet, number, thing)"],
+    "undoing": ["can_be_undone(sheet)", "undone(sheet)", "mirrored(sheet)", "staying(p, tree, holds)",
+                "behind(sheet, other)", "summed(sheet, other)", "came_from(sheet, answers)", "unheard(sheet, way)"],
+    "givens": ["barring(tree, holds, wants, table)", "is_barring(tree, holds, wants, table, thing)",
+               "made_sheet(p, tree, holds, wants, table)", "made_undoable(p, tree, holds, table)",
+               "tolls_in_all(p, holds, wants, there, back)", "sheets_in_all(p, tree, holds, wants)"],
+    "rulesheets": ["Rules(p, tree, unknowns, rules)", "rule_sheet(rules)", "with_rule(rules, post, number, row, right)",
+                   "without_rule(rules, post, number)"],
+    "solving": ["solution(rules)", "contradiction(rules)", "sure_values(rules, post)", "is_solution(rules, thing)",
+                "is_contradiction(rules, thing)", "are_sure(rules)", "many_solutions(rules)", "loose(rules)",
+                "tidings(rules, way)", "told_at(rules, post)", "changed_ways(rules, other)", "worked_out(rules)"],
+    "openings": ["Timing(right, left)", "even_timing(ties, breadth)", "places(timing, way, tick)",
+                 "carried(timing, way, tick)"],
 }
 
 
@@ -31,7 +47,7 @@ class Interface(unittest.TestCase):
                 self.assertEqual(inspect.isclass(thing), name[0].isupper())
 
     def test_equality_is_defined_in_each_class(self):
-        for file, name in (("trees", "Tree"), ("sheets", "Sheet")):
+        for file, name in (("trees", "Tree"), ("sheets", "Sheet"), ("rulesheets", "Rules"), ("openings", "Timing")):
             kind = getattr(importlib.import_module(f"sametolls.{file}"), name)
             self.assertIn("__eq__", vars(kind))
             self.assertIn("__init__", vars(kind))

@@ -1,6 +1,7 @@
 """Some rules of the language of the package that can be counted."""
 
 import ast
+import builtins
 import unittest
 from pathlib import Path
 
@@ -9,7 +10,47 @@ FILES = sorted(FOLDER.glob("*.py"))
 BARRED = (ast.GeneratorExp, ast.Set, ast.SetComp, ast.Global, ast.AsyncFunctionDef, ast.Try, ast.Div, ast.Yield)
 
 
+def bound_at_top(tree):
+    """The names that a file binds, in their order."""
+    found = []
+    for node in tree.body:
+        if isinstance(node, ast.ImportFrom):
+            found += [alias.name for alias in node.names]
+        elif isinstance(node, (ast.FunctionDef, ast.ClassDef)):
+            found.append(node.name)
+        elif isinstance(node, ast.Assign):
+            found += [target.id for target in node.targets]
+    return found
+
+
+def bound_within(tree):
+    """The names of parameters and of all that functions assign."""
+    found = []
+    for node in ast.walk(tree):
+        if isinstance(node, (ast.FunctionDef, ast.Lambda)):
+            found += [arg.arg for arg in node.args.args]
+            found += [name.id for name in ast.walk(node) if isinstance(name, ast.Name)
+                      and isinstance(name.ctx, ast.Store)]
+    return found
+
+
 class Language(unittest.TestCase):
+    def test_names_mean_one_thing_each(self):
+        for file in FILES:
+            tree = ast.parse(file.read_text(encoding="utf-8"))
+            top = bound_at_top(tree)
+            self.assertEqual(len(top), len(set(top)), file.name)
+            self.assertEqual(set(top) & set(bound_within(tree)), set(), file.name)
+            self.assertEqual([name for name in top + bound_within(tree) if hasattr(builtins, name)], [], file.name)
+
+    def test_all_that_is_imported_is_used(self):
+        for file in FILES:
+            tree = ast.parse(file.read_text(encoding="utf-8"))
+            used = {node.id for node in ast.walk(tree) if isinstance(node, ast.Name)}
+            for node in tree.body:
+                if isinstance(node, ast.ImportFrom):
+                    self.assertLessEqual({alias.name for alias in node.names}, used, file.name)
+
     def test_sizes_and_signs(self):
         self.assertGreater(len(FILES), 8)
         for file in FILES:
