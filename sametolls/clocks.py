@@ -122,14 +122,18 @@ def ladder_of(p, wide, rows):
 
 def rank_of(p, wide, rows):
     """The rank of right rows, however many they are."""
+    return len(widened(p, wide, {}, rows))
+
+
+def widened(p, wide, rungs, rows):
+    """Rungs, to which those are added that rows need beside them: each row is then in their room."""
     # A rung is 0 in the first places of those ahead of it, so that clearing in their order is enough.
-    rungs = {}
     for row in rows:
         rest = cleared(p, rungs, row)
         place = first_place(rest, wide)
         if place is not None:
             rungs[place] = multiplied(p, inverse(p, rest[place]), rest)
-    return len(rungs)
+    return rungs
 
 
 def kernel_of(p, wide, rows):
@@ -187,6 +191,11 @@ def mixed(p, wide, factors, rows):
         if factor:
             total = tuple([(value + factor * more) % p for value, more in zip(total, row)])
     return total
+
+
+def product_of(p, one, other):
+    """The sum of the products of two rows, place by place."""
+    return sum([value * factor for value, factor in zip(one, other)]) % p
 
 
 def cleared(p, rungs, row):

@@ -1,5 +1,7 @@
 """What kind of thing an argument is."""
 
+MOST_LETTERS = 8
+
 
 def is_integer(thing):
     """Whether a thing is an integer, which a flag is not."""
@@ -33,3 +35,10 @@ def is_lot(thing, end):
     if not isinstance(thing, tuple) or not all([is_below(number, end) for number in thing]):
         return False
     return are_ascending(thing)
+
+
+def is_name(thing):
+    """Whether a thing is a string of 1 to 8 letters from a to z."""
+    if not isinstance(thing, str) or not 1 <= len(thing) <= MOST_LETTERS:
+        return False
+    return all(["a" <= sign <= "z" for sign in thing])

@@ -45,10 +45,15 @@ def even_timing(ties, breadth):
     """The timing of so many ties that carry the same in each tick, both ways."""
     if not is_below(ties, MOST_TIES + 1):
         raise NoNumber()
-    if not is_below(breadth, MOST_PLACES + 1) or breadth == 0:
-        raise NoNumber()
+    check_breadth(breadth)
     openings = (((), (breadth,)),) * ties
     return Timing(openings, openings)
+
+
+def check_breadth(breadth):
+    """Raise an error for what is no number of places of ties that carry the same in each tick."""
+    if not is_below(breadth, MOST_PLACES + 1) or breadth == 0:
+        raise NoNumber()
 
 
 def places(timing, way, tick):
@@ -68,6 +73,12 @@ def carried(timing, way, tick):
         return sum(begin[:tick])
     whole, more = divmod(tick - len(begin), len(turns))
     return sum(begin) + whole * sum(turns) + sum(turns[:more])
+
+
+def all_places(timing, way, tick):
+    """The list of how many numbers can be sent over a way in tick 1, 2, .. up to one."""
+    begin, turns = opening_at(timing, way, tick)
+    return list((begin + turns * (tick // len(turns) + 1))[:tick])
 
 
 def opening_at(timing, way, tick):

@@ -157,6 +157,18 @@ def read_places(sheet, firsts, here, there):
     return list(held(sheet, here)) + heard
 
 
+def plan_saying(sheet, told):
+    """The right plan that says over each way just these rows, which must span all that is wanted beyond it."""
+    says = {way: parts_of(sheet, told, way[0], way[1], told[way]) for way in ways(sheet.tree)}
+    return says, tuple([parts_of(sheet, told, post, None, rows) for post, rows in enumerate(sheet.wants)])
+
+
+def parts_of(sheet, told, here, there, rows):
+    """Rows put to the items of which a post makes what it says on to there; what it answers for None."""
+    items = gathered(sheet, told, unit_rows(sheet.numbers), here, there)
+    return tuple(mixtures(sheet.p, sheet.numbers, items, rows))
+
+
 def over(sheet, plan):
     """The dict from the ways over which a right plan says more than the toll to how many more."""
     check_right(sheet, plan)

@@ -92,8 +92,8 @@ def block(sheet, way):
     """The rows of all wants beyond a way, cut down to the numbers held this side."""
     if not is_way(sheet.tree, way):
         raise NoWay()
-    near = near_numbers(sheet, way)
-    return tuple([cut(sheet.wants[post][want], near) for post, want in far_wants(sheet, way)])
+    rows = [sheet.wants[post][want] for post, want in far_wants(sheet, way)]
+    return narrowed(rows, near_numbers(sheet, way))
 
 
 def near_numbers(sheet, way):
@@ -112,9 +112,18 @@ def cut(row, lot):
     return tuple([row[place] for place in lot])
 
 
+def narrowed(rows, lot):
+    """Rows cut down to the places of a lot."""
+    return tuple([cut(row, lot) for row in rows])
+
+
 def wide_block(sheet, way):
     """The rows of a block with noughts for the numbers beyond."""
-    near = near_numbers(sheet, way)
-    keeps = [1 if number in near else 0 for number in range(sheet.numbers)]
     rows = [sheet.wants[post][want] for post, want in far_wants(sheet, way)]
+    return masked(sheet, rows, near_numbers(sheet, way))
+
+
+def masked(sheet, rows, lot):
+    """Rows with noughts for all numbers but those of a lot."""
+    keeps = [1 if number in lot else 0 for number in range(sheet.numbers)]
     return tuple([tuple([value * keep for value, keep in zip(row, keeps)]) for row in rows])

@@ -1,6 +1,6 @@
 """Solving rules along a tree, and what is told of them over each way."""
 
-from sametolls.clocks import cleared, kernel_of, ladder_of, mixtures, power, rungs_of
+from sametolls.clocks import cleared, kernel_of, ladder_of, mixtures, power, product_of, rungs_of
 from sametolls.errors import NoPost, NotAlike, NotSure, NoWay
 from sametolls.kinds import is_below, is_row
 from sametolls.rulesheets import Rules, rule_sheet
@@ -127,11 +127,6 @@ def all_rules(rules):
 def rule_counts(rules):
     """How many rules each post has."""
     return tuple([len(own) for own in rules.rules])
-
-
-def product_of(p, one, other):
-    """The sum of the products of two rows, place by place."""
-    return sum([value * factor for value, factor in zip(one, other)]) % p
 
 
 def told_of(rules, posts, kept):

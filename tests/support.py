@@ -4,6 +4,7 @@ from itertools import product
 
 from sametolls.clocks import mixture
 from sametolls.errors import NoRows, NoWay
+from sametolls.openings import Timing
 from sametolls.rulesheets import Rules
 from sametolls.sheets import Sheet
 from sametolls.trees import Tree, ways
@@ -244,6 +245,25 @@ def room(p, wide, rows):
     return found
 
 
+def own_rank(p, rows):
+    """The rank of rows, by clearing place after place."""
+    left = [row for row in rows if any(row)]
+    many = 0
+    while left:
+        head = left.pop()
+        place = min(at for at, value in enumerate(head) if value)
+        factor = pow(head[place], -1, p)
+        left = [add(p, row, times(p, -factor * row[place] % p, head)) for row in left]
+        left = [row for row in left if any(row)]
+        many += 1
+    return many
+
+
+def is_spanned(p, rows, row):
+    """Whether a row is a mixture of rows."""
+    return own_rank(p, list(rows) + [row]) == own_rank(p, rows)
+
+
 def path(tree, start, end):
     """The posts from one to another, by trying all."""
     trails = [[start]]
@@ -285,6 +305,50 @@ def spread_block(sheet, way):
     near = near_of(sheet, way)
     return [tuple(value if number in near else 0 for number, value in enumerate(sheet.wants[post][want]))
             for post, want in wants_beyond(sheet, way)]
+
+
+def opening_ticks(opening, ticks):
+    """How many numbers an opening lets through in each tick from 1 on."""
+    found = list(opening[0])
+    while len(found) < ticks:
+        found += opening[1]
+    return found[:ticks]
+
+
+def spaces(timing, way, ticks):
+    """How many numbers can be sent over a way in each tick from 1 on."""
+    here, there = way
+    return opening_ticks(timing.right[here] if here < there else timing.left[there], ticks)
+
+
+def some_timing(dice, ties, late=6):
+    """A timing of small openings; some ties open late, some rarely."""
+    def opening():
+        begin = tuple(dice.below(2) for _ in range(dice.below(late)))
+        if dice.below(3) == 0:
+            return begin, (0,) * dice.below(4) + (1 + dice.below(2),)
+        return begin, tuple(dice.below(3) for _ in range(dice.below(4))) + (1,)
+    right = tuple(opening() for _ in range(ties))
+    return Timing(right, tuple(opening() for _ in range(ties)))
+
+
+def row_sheets(seed, count, most_posts=5, most_held=2, most_wanted=2, clocks=(2, 3, 5, 999983)):
+    """Sheets on rows of posts."""
+    dice = Dice(seed)
+    found = [EXAMPLE, Sheet(2, Tree(()), (1,), (((1,),),)), Sheet(3, row_tree(3), (0, 0, 0), ((), (), ()))]
+    for _ in range(count):
+        tree = row_tree(1 + dice.below(most_posts))
+        found.append(some_sheet(dice, clocks[dice.below(len(clocks))], tree, most_held, most_wanted))
+    return found
+
+
+def rank_between(sheet, one, other):
+    """The rank of what must be led from one post of a row to another."""
+    posts = range(sheet.tree.posts)
+    ahead = [post for post in posts if (post <= one if one < other else post >= one)]
+    far = [post for post in posts if (post >= other if one < other else post <= other)]
+    numbers = [number for post in ahead for number in numbers_at(sheet, post)]
+    return own_rank(sheet.p, [tuple(row[number] for number in numbers) for post in far for row in sheet.wants[post]])
 
 
 def units(wide):

@@ -1,10 +1,13 @@
-"""The examples of the document, as far as their modules have landed."""
+"""The examples of the document."""
 
 import unittest
 
 from sametolls.clocks import determinant, ladder, mixture, parting
 from sametolls.givens import barring
+from sametolls.hours import overlap_ticks, ticks
 from sametolls.listeners import surely_learnt
+from sametolls.loads import least_tick
+from sametolls.openings import even_timing
 from sametolls.orders import least_peak, least_sum
 from sametolls.plans import first_wrong, least_plan
 from sametolls.runs import wanted
@@ -45,6 +48,11 @@ class Examples(unittest.TestCase):
     def test_e06(self):
         table = {(0, 1): 1, (1, 0): 0, (1, 2): 2, (2, 1): 0}
         self.assertEqual(barring(T, (1, 0, 0), (0, 0, 1), table), (1, (1, 2)))
+
+    def test_e07(self):
+        self.assertEqual(least_tick(S, even_timing(2, 1)), 1)
+        self.assertEqual(ticks(undone(S)), 2)
+        self.assertEqual(overlap_ticks(S), 2)
 
     def test_e08(self):
         sheet = Sheet(2, Tree(((0, 1),)), (1, 0), ((), ((1,),)))

@@ -32,6 +32,33 @@ FILES = {
                 "tidings(rules, way)", "told_at(rules, post)", "changed_ways(rules, other)", "worked_out(rules)"],
     "openings": ["Timing(right, left)", "even_timing(ties, breadth)", "places(timing, way, tick)",
                  "carried(timing, way, tick)"],
+    "loads": ["load(timing, one, other, tick)", "barred(timing, one, other, tick, cut)",
+              "least_cut(timing, one, other, tick)", "between(sheet, one, other)", "can_by(sheet, timing, tick)",
+              "too_much(sheet, timing, tick)", "is_too_much(sheet, timing, tick, thing)", "least_tick(sheet, timing)"],
+    "timetables": ["is_kept(sheet, timing, thing)", "known(sheet, timing, table, post, tick)",
+                   "met(sheet, timing, table)", "heard_at(sheet, timing, table, given)",
+                   "timetable(sheet, timing, tick)"],
+    "hours": ["in_time(sheet, breadth, hours)", "too_early(sheet, breadth, hours)",
+              "is_too_early(sheet, breadth, hours, thing)", "hours_table(sheet, breadth, hours)",
+              "least_delay(sheet, breadth, hours)", "ticks(sheet)", "overlap_ticks(sheet)"],
+    "batches": ["is_pacing(sheet, plan, breadth, pace, thing)", "pacing(sheet, plan, breadth, pace)",
+                "least_pace(sheet, plan, breadth)", "best_pace(sheet, breadth)", "lag(sheet, plan, pacing)"],
+    "programs": ["talked(sheet, program, given)", "first_failed(sheet, program)", "talks(sheet, program, way)",
+                 "fooled(sheet, program, way)", "ends(sheet, plan)", "as_program(sheet, plan)"],
+    "nets": ["Net(sheet, given)"],
+    "journals": ["replayed(sheet, given, journal)"],
+    "desks": ["Desk()"],
+}
+
+
+METHODS = {
+    ("nets", "Net"): [
+        "sheet()", "given()", "answers()", "toll(way)", "rows(way)", "plan()", "set_want(post, want, row)",
+        "add_want(post, row)", "drop_want(post, want)", "add_number(post, value)", "drop_number(number)",
+        "add_post(post)", "drop_post(post)", "set_value(number, value)", "set_values(values)", "anew(lot)",
+        "renewal(lot)", "undo()", "redo()", "deeds()", "mark(name)", "marks()", "go_to(name)", "copy()",
+        "trying(action)", "journal()"],
+    ("desks", "Desk"): ["tell(line)"],
 }
 
 
@@ -45,6 +72,14 @@ class Interface(unittest.TestCase):
                 self.assertEqual(f"{name}{inspect.signature(thing)}", line)
                 self.assertEqual(thing.__module__, f"sametolls.{file}")
                 self.assertEqual(inspect.isclass(thing), name[0].isupper())
+
+    def test_methods_are_defined_in_each_class(self):
+        for (file, name), lines in METHODS.items():
+            kind = getattr(importlib.import_module(f"sametolls.{file}"), name)
+            for line in lines:
+                method = line.partition("(")[0]
+                found = str(inspect.signature(vars(kind)[method]))
+                self.assertEqual(method + found.replace("self, ", "").replace("self", ""), line)
 
     def test_equality_is_defined_in_each_class(self):
         for file, name in (("trees", "Tree"), ("sheets", "Sheet"), ("rulesheets", "Rules"), ("openings", "Timing")):

@@ -7,7 +7,9 @@ from pathlib import Path
 
 FOLDER = Path(__file__).resolve().parent.parent / "sametolls"
 FILES = sorted(FOLDER.glob("*.py"))
-BARRED = (ast.GeneratorExp, ast.Set, ast.SetComp, ast.Global, ast.AsyncFunctionDef, ast.Try, ast.Div, ast.Yield)
+# The interface calls an argument of lag as the function that makes it is called.
+BOTH = {"batches.py": {"pacing"}}
+BARRED = (ast.GeneratorExp, ast.Set, ast.SetComp, ast.Global, ast.AsyncFunctionDef, ast.Div, ast.Yield)
 
 
 def bound_at_top(tree):
@@ -40,7 +42,7 @@ class Language(unittest.TestCase):
             tree = ast.parse(file.read_text(encoding="utf-8"))
             top = bound_at_top(tree)
             self.assertEqual(len(top), len(set(top)), file.name)
-            self.assertEqual(set(top) & set(bound_within(tree)), set(), file.name)
+            self.assertEqual(set(top) & set(bound_within(tree)), BOTH.get(file.name, set()), file.name)
             self.assertEqual([name for name in top + bound_within(tree) if hasattr(builtins, name)], [], file.name)
 
     def test_all_that_is_imported_is_used(self):
@@ -66,6 +68,12 @@ class Language(unittest.TestCase):
                 if isinstance(node, ast.FunctionDef):
                     self.assertLessEqual(node.end_lineno - node.lineno, 39, node.name)
                     self.assertEqual(node.decorator_list, [], node.name)
+
+    def test_own_errors_alone_are_caught(self):
+        for file in FILES:
+            for node in ast.walk(ast.parse(file.read_text(encoding="utf-8"))):
+                if isinstance(node, ast.ExceptHandler):
+                    self.assertIn(node.type.id, ("TollError", "TooLong"), file.name)
 
     def test_imports_are_of_the_package_alone(self):
         for file in FILES:

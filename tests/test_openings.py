@@ -3,7 +3,7 @@
 import unittest
 
 from sametolls.openings import Timing, carried, even_timing, places
-from tests.support import EXAMPLE, ROW_OF_THREE, Dice, all_odd, error_of, nested
+from tests.support import EXAMPLE, ROW_OF_THREE, Dice, all_odd, error_of, nested, opening_ticks
 
 EVEN = ((), (1,))
 SOME = ((1, 2), (0, 3, 5))
@@ -24,14 +24,6 @@ NO_WAYS = all_odd() + [(0, 2), (2, 0), (0, 0), (2, 2), (2, 3), (3, 2), (-1, 0), 
                        (False, 1), (1, False), (0, 1, 2), (), (0,), ((0, 1),), ("0", "1"), "01", (0, [1]), {}, 0, 1,
                        (0, 10 ** 59), (10 ** 59, 10 ** 59 + 1), {0: 1}, (1, None), (None, 1), ((0,), (1,))]
 NO_TICKS = all_odd() + [-1, 10 ** 9 + 1, "1", (1,), [1], {}, ()]
-
-
-def tick_by_tick(opening, ticks):
-    """How many places there are in each tick from 1 on."""
-    found = list(opening[0])
-    while len(found) < ticks:
-        found += opening[1]
-    return found[:ticks]
 
 
 def some_opening(dice):
@@ -141,7 +133,7 @@ class Ticks(unittest.TestCase):
             timing = Timing(right, left)
             for tie in range(ties):
                 for way, opening in (((tie, tie + 1), right[tie]), ((tie + 1, tie), left[tie])):
-                    turns = tick_by_tick(opening, 150)
+                    turns = opening_ticks(opening, 150)
                     for tick in range(1, 151):
                         self.assertEqual(places(timing, way, tick), turns[tick - 1])
                         self.assertEqual(carried(timing, way, tick), sum(turns[:tick]))
@@ -155,7 +147,7 @@ class Ticks(unittest.TestCase):
                 # As many rounds are left out as leave few ticks behind begin.
                 rounds = (tick - 100) // len(turns)
                 near = tick - rounds * len(turns)
-                ticks = tick_by_tick((begin, turns), near)
+                ticks = opening_ticks((begin, turns), near)
                 self.assertEqual(places(timing, (0, 1), tick), ticks[-1])
                 self.assertEqual(carried(timing, (0, 1), tick), sum(ticks) + rounds * sum(turns))
 
