@@ -9,7 +9,7 @@ from sametolls.openings import Timing, even_timing
 from sametolls.sheets import Sheet
 from sametolls.trees import Tree
 from tests.support import (EXAMPLE, Dice, all_odd, error_of, great_sheet, numbers_at, rank_between, row_sheets, room,
-                           row_tree, some_timing, spaces, star_tree, units)
+                           row_tree, some_sheet, some_timing, spaces, star_tree, units)
 
 SHUT = ((), (0,))
 ONCE = ((), (1,))
@@ -338,7 +338,8 @@ class CanBy(unittest.TestCase):
         self.assertIsNone(too_much(one, none, 5000))
         self.assertEqual(least_tick(one, none), 0)
         self.assertIs(is_too_much(one, none, 0, (0, 0, ())), False)
-        for posts, sheet in ((10, row_sheets(841, 40, 10, 4, 4)[-1]), (24, great_sheet()), (24, great_sheet(2))):
+        dice = Dice(841)
+        for sheet in [some_sheet(dice, 3, row_tree(posts), 3, 3) for posts in (10, 15)] + [great_sheet(), great_sheet(2)]:
             ties = sheet.tree.posts - 1
             timing = even_timing(ties, 1)
             tick = least_tick(sheet, timing)
